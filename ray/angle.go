@@ -1,23 +1,26 @@
 package ray
 
-import "couplant/api"
+import (
+	"couplant/api"
+	"couplant/base"
+)
 
 // CriticalSquare returns the sine squared beyond which nothing passes from one speed to another one.
 func CriticalSquare(first, second int) (api.Frac, api.Errno) {
-	e := firstOf(
-		speedError(first),
-		speedError(second),
-		unless(first < second, api.ErrNone),
+	e := base.FirstOf(
+		base.SpeedError(first),
+		base.SpeedError(second),
+		base.Unless(first < second, api.ErrNone),
 	)
 	if e != api.OK {
 		return api.Frac{}, e
 	}
-	return lowest(first*first, second*second), api.OK
+	return base.Lowest(first*first, second*second), api.OK
 }
 
 // Passes returns whether a direction passes from one speed to another one.
 func Passes(direction [2]int, first, second int) (bool, api.Errno) {
-	if e := firstOf(directionError(direction), speedError(first), speedError(second)); e != api.OK {
+	if e := base.FirstOf(directionError(direction), base.SpeedError(first), base.SpeedError(second)); e != api.OK {
 		return false, e
 	}
 	num, den := behind(direction, first, second)
@@ -27,10 +30,10 @@ func Passes(direction [2]int, first, second int) (bool, api.Errno) {
 // BehindSquare returns the sine squared of a direction behind the plane.
 func BehindSquare(direction [2]int, first, second int) (api.Frac, api.Errno) {
 	passes, e := Passes(direction, first, second)
-	if e = firstOf(e, unless(passes, api.ErrNone)); e != api.OK {
+	if e = base.FirstOf(e, base.Unless(passes, api.ErrNone)); e != api.OK {
 		return api.Frac{}, e
 	}
-	square := lowest(behind(direction, first, second))
+	square := base.Lowest(behind(direction, first, second))
 	if square.Num > api.MaxPart || square.Den > api.MaxPart {
 		return api.Frac{}, api.ErrLarge
 	}
@@ -39,13 +42,13 @@ func BehindSquare(direction [2]int, first, second int) (api.Frac, api.Errno) {
 
 // SteepWithin returns whether the tangent of a direction to the upright is, in size, from least to most.
 func SteepWithin(direction [2]int, least, most api.Frac) (bool, api.Errno) {
-	if e := firstOf(directionError(direction), fracError(least), fracError(most)); e != api.OK {
+	if e := base.FirstOf(directionError(direction), fracError(least), fracError(most)); e != api.OK {
 		return false, e
 	}
 	if isGreater(least, most) {
 		return false, api.ErrOrder
 	}
-	steep := api.Frac{Num: size(direction[0]), Den: direction[1]}
+	steep := api.Frac{Num: base.Size(direction[0]), Den: direction[1]}
 	return !isGreater(least, steep) && !isGreater(steep, most), api.OK
 }
 

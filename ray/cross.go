@@ -4,6 +4,7 @@ import (
 	"sort"
 
 	"couplant/api"
+	"couplant/base"
 )
 
 // crossing is a crossing, and the lesser and the greater one of its two places along the plane.
@@ -19,11 +20,13 @@ func crossingOf(x api.RayCross) crossing {
 
 // CheckCross accepts a crossing.
 func CheckCross(x api.RayCross) api.Errno {
-	return firstOf(
-		unless(alongPlane(x.X1) && alongPlane(x.X2), api.ErrRange),
-		unless(within(x.H1, 1, api.MaxPlace) && within(x.H2, 1, api.MaxPlace), api.ErrRange),
-		speedError(x.V1),
-		speedError(x.V2),
+	return base.FirstOf(
+		base.RangeError(x.X1, -api.MaxPlace, api.MaxPlace),
+		base.RangeError(x.X2, -api.MaxPlace, api.MaxPlace),
+		base.RangeError(x.H1, 1, api.MaxPlace),
+		base.RangeError(x.H2, 1, api.MaxPlace),
+		base.SpeedError(x.V1),
+		base.SpeedError(x.V2),
 	)
 }
 
@@ -57,9 +60,9 @@ func CheckCrossing(x api.RayCross, at int) api.Errno {
 		return e
 	}
 	c := crossingOf(x)
-	return firstOf(
-		unless(c.slope(at) <= 0, api.ErrProof),
-		unless(at == c.greater || c.slope(at+1) > 0, api.ErrProof),
+	return base.FirstOf(
+		base.Unless(c.slope(at) <= 0, api.ErrProof),
+		base.Unless(at == c.greater || c.slope(at+1) > 0, api.ErrProof),
 	)
 }
 
@@ -73,9 +76,9 @@ func Least(x api.RayCross) (api.Range, api.Errno) {
 
 // crossPlaceError is the error of a crossing and a place of its plane.
 func crossPlaceError(x api.RayCross, at int) api.Errno {
-	return firstOf(
+	return base.FirstOf(
 		CheckCross(x),
-		unless(within(at, min(x.X1, x.X2), max(x.X1, x.X2)), api.ErrRange),
+		base.RangeError(at, min(x.X1, x.X2), max(x.X1, x.X2)),
 	)
 }
 
@@ -110,7 +113,7 @@ func (c crossing) timeAt(at int) api.Range {
 
 // bound is how much less than at whole places the time may be between them.
 func (c crossing) bound() int {
-	return dividedUp(10000000, c.V1*c.H1) + dividedUp(10000000, c.V2*c.H2)
+	return base.DividedUp(10000000, c.V1*c.H1) + base.DividedUp(10000000, c.V2*c.H2)
 }
 
 // leastTime is the least time of the crossing.

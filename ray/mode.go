@@ -1,20 +1,23 @@
 package ray
 
-import "couplant/api"
+import (
+	"couplant/api"
+	"couplant/base"
+)
 
 // CheckMode accepts a mode.
 func CheckMode(m api.RayMode) api.Errno {
-	return firstOf(
-		speedError(m.Wedge),
-		speedError(m.Metal),
-		unless(within(m.Skips, 0, api.MaxSkips), api.ErrRange),
+	return base.FirstOf(
+		base.SpeedError(m.Wedge),
+		base.SpeedError(m.Metal),
+		base.RangeError(m.Skips, 0, api.MaxSkips),
 		thickError(m.Thick),
 	)
 }
 
 // Unfolded returns the unfolded depth of a place in the plate.
 func Unfolded(m api.RayMode, z int) (int, api.Errno) {
-	if e := firstOf(CheckMode(m), unless(inPlate(z, m.Thick), api.ErrBreak)); e != api.OK {
+	if e := base.FirstOf(CheckMode(m), base.Unless(inPlate(z, m.Thick), api.ErrBreak)); e != api.OK {
 		return 0, e
 	}
 	return unfolded(m, z), api.OK
@@ -22,7 +25,7 @@ func Unfolded(m api.RayMode, z int) (int, api.Errno) {
 
 // CrossOf returns the crossing of a mode.
 func CrossOf(m api.RayMode, from, to api.Spot) (api.RayCross, api.Errno) {
-	if e := firstOf(CheckMode(m), wayError(m, from, to)); e != api.OK {
+	if e := base.FirstOf(CheckMode(m), wayError(m, from, to)); e != api.OK {
 		return api.RayCross{}, e
 	}
 	return crossOf(m, from, to), api.OK
@@ -43,7 +46,7 @@ func RoundedTime(m api.RayMode, from, to api.Spot) (int, api.Errno) {
 	if e != api.OK {
 		return 0, e
 	}
-	return dividedDown(t.Lo+t.Hi, 2), api.OK
+	return base.DividedDown(t.Lo+t.Hi, 2), api.OK
 }
 
 // Walls returns where the way of a mode meets the walls of the plate.
@@ -56,18 +59,18 @@ func Walls(m api.RayMode, from, to api.Spot) ([]api.Range, api.Errno) {
 	var walls []api.Range
 	for j := 1; j <= m.Skips; j++ {
 		across := (x.X2 - k) * j * m.Thick
-		walls = append(walls, api.Range{Lo: k + dividedDown(across, x.H2), Hi: k + dividedUp(across, x.H2)})
+		walls = append(walls, api.Range{Lo: k + base.DividedDown(across, x.H2), Hi: k + base.DividedUp(across, x.H2)})
 	}
 	return walls, api.OK
 }
 
 // wayError is the error of a way of a mode that is right.
 func wayError(m api.RayMode, from, to api.Spot) api.Errno {
-	return firstOf(
-		placeError(from),
-		placeError(to),
-		unless(from.Z < 0, api.ErrKind),
-		unless(inPlate(to.Z, m.Thick), api.ErrBreak),
+	return base.FirstOf(
+		base.PlaceError(from),
+		base.PlaceError(to),
+		base.Unless(from.Z < 0, api.ErrKind),
+		base.Unless(inPlate(to.Z, m.Thick), api.ErrBreak),
 	)
 }
 

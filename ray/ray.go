@@ -1,11 +1,14 @@
 // Package ray is chapter 1: least travel times. See shared/doc/01-ray.md.
 package ray
 
-import "couplant/api"
+import (
+	"couplant/api"
+	"couplant/base"
+)
 
 // Length returns the length between two places, in thousandths of a unit of places.
 func Length(a, b api.Spot) (api.Range, api.Errno) {
-	if e := firstOf(placeError(a), placeError(b)); e != api.OK {
+	if e := base.FirstOf(base.PlaceError(a), base.PlaceError(b)); e != api.OK {
 		return api.Range{}, e
 	}
 	return lengthOf(a, b), api.OK
@@ -13,7 +16,7 @@ func Length(a, b api.Spot) (api.Range, api.Errno) {
 
 // TimeOf returns the time from one place to another one at a speed, in picoseconds.
 func TimeOf(a, b api.Spot, speed int) (api.Range, api.Errno) {
-	if e := firstOf(placeError(a), placeError(b), speedError(speed)); e != api.OK {
+	if e := base.FirstOf(base.PlaceError(a), base.PlaceError(b), base.SpeedError(speed)); e != api.OK {
 		return api.Range{}, e
 	}
 	return legTime(a, b, speed), api.OK
@@ -36,7 +39,7 @@ func lengthOf(a, b api.Spot) api.Range {
 // legTime is TimeOf of right places and a right speed.
 func legTime(a, b api.Spot, speed int) api.Range {
 	l := lengthOf(a, b)
-	return api.Range{Lo: dividedDown(10000*l.Lo, speed), Hi: dividedUp(10000*l.Hi, speed)}
+	return api.Range{Lo: base.DividedDown(10000*l.Lo, speed), Hi: base.DividedUp(10000*l.Hi, speed)}
 }
 
 // added is the sum of two enclosures.

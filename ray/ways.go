@@ -1,6 +1,9 @@
 package ray
 
-import "couplant/api"
+import (
+	"couplant/api"
+	"couplant/base"
+)
 
 // TurnedTime returns the least time of a turn at the back wall.
 func TurnedTime(x api.RayTurn) (api.Range, api.Errno) {
@@ -16,7 +19,7 @@ func TurnedTime(x api.RayTurn) (api.Range, api.Errno) {
 
 // EchoTime returns the sum of the least times to a place and back from it.
 func EchoTime(x api.RayEcho) (api.Range, api.Errno) {
-	e := firstOf(
+	e := base.FirstOf(
 		CheckMode(x.Out),
 		CheckMode(x.Back),
 		wayError(x.Out, x.From, x.At),
@@ -32,11 +35,7 @@ func EchoTime(x api.RayEcho) (api.Range, api.Errno) {
 
 // MayBeFirst returns the numbers of the modes whose least time may be the least of all.
 func MayBeFirst(l []api.RayMode, from, to api.Spot) ([]int, api.Errno) {
-	e := firstOf(
-		unless(len(l) > 0, api.ErrShape),
-		unless(len(l) <= api.MaxRayModes, api.ErrLarge),
-	)
-	if e != api.OK {
+	if e := base.LengthError(len(l), api.MaxRayModes); e != api.OK {
 		return nil, e
 	}
 	var times []api.Range
@@ -53,13 +52,13 @@ func MayBeFirst(l []api.RayMode, from, to api.Spot) ([]int, api.Errno) {
 // turnError is the error of a turn. Its places may also be on the surface.
 func turnError(x api.RayTurn) api.Errno {
 	besideWall := func(z int) bool { return z == 0 || inPlate(z, x.Thick) }
-	return firstOf(
-		placeError(x.From),
-		placeError(x.To),
+	return base.FirstOf(
+		base.PlaceError(x.From),
+		base.PlaceError(x.To),
 		thickError(x.Thick),
-		unless(besideWall(x.From.Z) && besideWall(x.To.Z), api.ErrBreak),
-		speedError(x.First),
-		speedError(x.Second),
+		base.Unless(besideWall(x.From.Z) && besideWall(x.To.Z), api.ErrBreak),
+		base.SpeedError(x.First),
+		base.SpeedError(x.Second),
 	)
 }
 

@@ -1,0 +1,90 @@
+package base_test
+
+import (
+	"testing"
+
+	"couplant/api"
+	"couplant/base"
+)
+
+const (
+	greatest = int(^uint(0) >> 1)
+	smallest = -greatest - 1
+)
+
+// want compares a result with the right one.
+func want[T comparable](t *testing.T, what string, got, right T) {
+	t.Helper()
+	if got != right {
+		t.Errorf("%s: %v; want %v", what, got, right)
+	}
+}
+
+func TestErrors(t *testing.T) {
+	want(t, "FirstOf nothing", base.FirstOf(), api.OK)
+	want(t, "FirstOf", base.FirstOf(api.OK, api.ErrKind, api.ErrRange), api.ErrKind)
+	want(t, "Unless it holds", base.Unless(true, api.ErrKind), api.OK)
+	want(t, "Unless it does not", base.Unless(false, api.ErrKind), api.ErrKind)
+	want(t, "LengthError of none", base.LengthError(0, 2), api.ErrShape)
+	want(t, "LengthError of one", base.LengthError(1, 2), api.OK)
+	want(t, "LengthError of the most", base.LengthError(2, 2), api.OK)
+	want(t, "LengthError of too many", base.LengthError(3, 2), api.ErrLarge)
+	for _, n := range []int{smallest, -4, 8, greatest} {
+		want(t, "RangeError outside", base.RangeError(n, -3, 7), api.ErrRange)
+	}
+	for _, n := range []int{-3, 0, 7} {
+		want(t, "RangeError inside", base.RangeError(n, -3, 7), api.OK)
+	}
+	l := []int{5, 6, 6, 4, 5}
+	for n, right := range []api.Errno{api.OK, api.OK, api.ErrOrder, api.ErrOrder, api.OK} {
+		want(t, "RiseError", base.RiseError(l, n), right)
+	}
+}
+
+func TestFirstIn(t *testing.T) {
+	for _, x := range []struct {
+		l []api.Errno
+		n int
+		e api.Errno
+	}{
+		{nil, 0, api.OK},
+		{[]api.Errno{api.OK, api.OK}, 0, api.OK},
+		{[]api.Errno{api.ErrKind, api.ErrRange}, 0, api.ErrKind},
+		{[]api.Errno{api.OK, api.ErrRange, api.ErrKind}, 1, api.ErrRange},
+	} {
+		n, e := base.FirstIn(len(x.l), func(n int) api.Errno { return x.l[n] })
+		want(t, "the number of FirstIn", n, x.n)
+		want(t, "the error of FirstIn", e, x.e)
+	}
+}
+
+func TestPlacesAndSpeeds(t *testing.T) {
+	for _, n := range []int{smallest, -100001, 100001, greatest} {
+		want(t, "PlaceError of X", base.PlaceError(api.Spot{X: n}), api.ErrRange)
+		want(t, "PlaceError of Z", base.PlaceError(api.Spot{Z: n}), api.ErrRange)
+	}
+	for _, n := range []int{-100000, 0, 100000} {
+		want(t, "PlaceError", base.PlaceError(api.Spot{X: n, Z: -n}), api.OK)
+	}
+	for speed, right := range map[int]api.Errno{smallest: api.ErrRange, 0: api.ErrRange, 499: api.ErrRange, 500: api.OK, 10000: api.OK, 10001: api.ErrRange} {
+		want(t, "SpeedError", base.SpeedError(speed), right)
+	}
+}
+
+func TestNumbers(t *testing.T) {
+	for _, x := range []struct{ n, by, down, up, near int }{
+		{0, 3, 0, 0, 0}, {7, 2, 3, 4, 4}, {-7, 2, -4, -3, -3}, {6, 2, 3, 3, 3}, {-6, 2, -3, -3, -3},
+		{7, 3, 2, 3, 2}, {8, 3, 2, 3, 3}, {-7, 3, -3, -2, -2}, {-8, 3, -3, -2, -3}, {1, 2, 0, 1, 1}, {-1, 2, -1, 0, 0},
+		{5, 1, 5, 5, 5}, {5, 10, 0, 1, 1}, {-5, 10, -1, 0, 0}, {4, 10, 0, 1, 0},
+	} {
+		want(t, "DividedDown", base.DividedDown(x.n, x.by), x.down)
+		want(t, "DividedUp", base.DividedUp(x.n, x.by), x.up)
+		want(t, "Rounded", base.Rounded(x.n, x.by), x.near)
+	}
+	want(t, "Size", base.Size(-5), 5)
+	want(t, "Size", base.Size(5), 5)
+	want(t, "CommonDivisor", base.CommonDivisor(-12, 18), 6)
+	want(t, "CommonDivisor of 0", base.CommonDivisor(0, 7), 7)
+	want(t, "Lowest", base.Lowest(-12, 18), api.Frac{Num: -2, Den: 3})
+	want(t, "Lowest of 0", base.Lowest(0, 18), api.Frac{Num: 0, Den: 1})
+}

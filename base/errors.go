@@ -1,0 +1,63 @@
+// Package base is what the layers share: errors in their order, and whole numbers.
+package base
+
+import "couplant/api"
+
+// FirstOf returns the first of some errors, or OK if all of them are OK.
+func FirstOf(errors ...api.Errno) api.Errno {
+	for _, e := range errors {
+		if e != api.OK {
+			return e
+		}
+	}
+	return api.OK
+}
+
+// Unless returns an error unless a condition holds.
+func Unless(holds bool, e api.Errno) api.Errno {
+	if holds {
+		return api.OK
+	}
+	return e
+}
+
+// FirstIn returns the number of the first element of a list that has an error, and this; or 0 and OK.
+func FirstIn(length int, errorAt func(n int) api.Errno) (int, api.Errno) {
+	for n := range length {
+		if e := errorAt(n); e != api.OK {
+			return n, e
+		}
+	}
+	return 0, api.OK
+}
+
+// LengthError is the error of a list that is to have one element at least, and so many at most.
+func LengthError(length, most int) api.Errno {
+	return FirstOf(
+		Unless(length > 0, api.ErrShape),
+		Unless(length <= most, api.ErrLarge),
+	)
+}
+
+// RangeError is the error of a number that is to be from least to most.
+func RangeError(n, least, most int) api.Errno {
+	return Unless(Within(n, least, most), api.ErrRange)
+}
+
+// PlaceError is the error of a place.
+func PlaceError(p api.Spot) api.Errno {
+	return FirstOf(
+		RangeError(p.X, -api.MaxPlace, api.MaxPlace),
+		RangeError(p.Z, -api.MaxPlace, api.MaxPlace),
+	)
+}
+
+// SpeedError is the error of a speed.
+func SpeedError(speed int) api.Errno {
+	return RangeError(speed, api.LeastSpeed, api.MaxSpeed)
+}
+
+// RiseError is the error of an element of a list of numbers that is to be greater than the one before.
+func RiseError(l []int, n int) api.Errno {
+	return Unless(n == 0 || l[n] > l[n-1], api.ErrOrder)
+}

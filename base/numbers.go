@@ -1,0 +1,43 @@
+package base
+
+import "couplant/api"
+
+// Within tells whether a number is from least to most.
+func Within(n, least, most int) bool { return least <= n && n <= most }
+
+// DividedDown is n / by, rounded down; by is above 0.
+func DividedDown(n, by int) int {
+	q := n / by
+	if n%by < 0 {
+		q--
+	}
+	return q
+}
+
+// DividedUp is n / by, rounded up; by is above 0.
+func DividedUp(n, by int) int { return -DividedDown(-n, by) }
+
+// Rounded is n / by, rounded to the nearest whole number, halves up; by is above 0.
+func Rounded(n, by int) int { return DividedDown(2*n+by, 2*by) }
+
+// Size is a number without its sign.
+func Size(n int) int {
+	if n < 0 {
+		return -n
+	}
+	return n
+}
+
+// CommonDivisor is the greatest common divisor of two numbers; b is above 0.
+func CommonDivisor(a, b int) int {
+	for b != 0 {
+		a, b = b, a%b
+	}
+	return Size(a)
+}
+
+// Lowest is a fraction in lowest terms; den is above 0.
+func Lowest(num, den int) api.Frac {
+	g := CommonDivisor(num, den)
+	return api.Frac{Num: num / g, Den: den / g}
+}
