@@ -71,6 +71,15 @@ func TestPlacesAndSpeeds(t *testing.T) {
 	}
 }
 
+func TestFormError(t *testing.T) {
+	for _, f := range []api.Frac{{Num: 0, Den: 1}, {Num: 3, Den: 2}, {Num: -1, Den: 2}, {Num: smallest, Den: 1}, {Num: smallest, Den: greatest}, {Num: greatest, Den: 1}} {
+		want(t, "FormError", base.FormError(f), api.OK)
+	}
+	for _, f := range []api.Frac{{}, {Num: 1}, {Num: 0, Den: 2}, {Num: 2, Den: 4}, {Num: -2, Den: 4}, {Num: 1, Den: -2}, {Num: smallest, Den: 2}, {Num: smallest, Den: smallest}, {Num: greatest, Den: greatest}} {
+		want(t, "FormError of a wrong form", base.FormError(f), api.ErrForm)
+	}
+}
+
 func TestNumbers(t *testing.T) {
 	for _, x := range []struct{ n, by, down, up, near int }{
 		{0, 3, 0, 0, 0}, {7, 2, 3, 4, 4}, {-7, 2, -4, -3, -3}, {6, 2, 3, 3, 3}, {-6, 2, -3, -3, -3},

@@ -57,6 +57,11 @@ func SpeedError(speed int) api.Errno {
 	return RangeError(speed, api.LeastSpeed, api.MaxSpeed)
 }
 
+// FormError is the error of a fraction that is to be in lowest terms, with Den above 0.
+func FormError(f api.Frac) api.Errno {
+	return Unless(f.Den > 0 && CommonDivisor(f.Num, f.Den) == 1, api.ErrForm)
+}
+
 // RiseError is the error of an element of a list of numbers that is to be greater than the one before.
 func RiseError(l []int, n int) api.Errno {
 	return Unless(n == 0 || l[n] > l[n-1], api.ErrOrder)

@@ -21,7 +21,7 @@ func directionError(direction [2]int) api.Errno {
 // fracError is the error of a fraction that is to be at least 0 and small.
 func fracError(f api.Frac) api.Errno {
 	return base.FirstOf(
-		base.Unless(f.Den > 0 && base.CommonDivisor(f.Num, f.Den) == 1, api.ErrForm),
+		base.FormError(f),
 		base.RangeError(f.Num, 0, api.MaxPart),
 		base.RangeError(f.Den, 1, api.MaxPart),
 	)
