@@ -71,6 +71,53 @@ func TestPlacesAndSpeeds(t *testing.T) {
 	}
 }
 
+func TestElementsError(t *testing.T) {
+	in := api.Spot{X: 5, Z: -1}
+	for _, x := range []struct {
+		l []api.Spot
+		n int
+		e api.Errno
+	}{
+		{nil, 0, api.ErrShape},
+		{make([]api.Spot, 17), 0, api.ErrLarge},
+		{[]api.Spot{in}, 0, api.OK},
+		{[]api.Spot{in, in, in, in, in, in, in, in, in, in, in, in, in, in, in, {X: 100000, Z: -100000}}, 0, api.OK},
+		{[]api.Spot{in, {X: 100001}, {}}, 1, api.ErrRange},
+		{[]api.Spot{in, in, {}, {X: 100001}}, 2, api.ErrKind},
+		{[]api.Spot{{X: 5, Z: 100000}}, 0, api.ErrKind},
+	} {
+		n, e := base.ElementsError(x.l)
+		want(t, "the number of ElementsError", n, x.n)
+		want(t, "the error of ElementsError", e, x.e)
+	}
+}
+
+func TestPlates(t *testing.T) {
+	for z, right := range map[int]api.Errno{smallest: api.ErrBreak, -1: api.ErrBreak, 0: api.ErrBreak, 1: api.OK, 9: api.OK, 10: api.ErrBreak, 11: api.ErrBreak, greatest: api.ErrBreak} {
+		want(t, "DepthError", base.DepthError(z, 10), right)
+		want(t, "PlateError outside", base.PlateError(api.Spot{X: 100001, Z: z}, 10), api.ErrRange)
+		if base.Within(z, -api.MaxPlace, api.MaxPlace) {
+			want(t, "PlateError", base.PlateError(api.Spot{X: 100000, Z: z}, 10), right)
+		}
+	}
+}
+
+func TestNumber(t *testing.T) {
+	for word, right := range map[string]int{"0": 0, "5": 5, "-5": -5, "10": 10, "999": 999, "-999": -999} {
+		n, isNumber := base.Number(word, 3)
+		want(t, "Number "+word, n, right)
+		want(t, "whether it is one: "+word, isNumber, true)
+	}
+	for _, word := range []string{"", "-", "-0", "00", "05", "-05", "+5", "--5", " 5", "5 ", "5\n", "x", "5x", "0x1", "1_0", "1.0", "1e1", "1000", "-1000", "99999999999999999999", "\xff", "٣", "−5"} {
+		n, isNumber := base.Number(word, 3)
+		want(t, "Number "+word, n, 0)
+		want(t, "whether it is one: "+word, isNumber, false)
+	}
+	n, isNumber := base.Number("-9223372036854775808", 19)
+	want(t, "the smallest Number", n, smallest)
+	want(t, "whether it is one", isNumber, true)
+}
+
 func TestFormError(t *testing.T) {
 	for _, f := range []api.Frac{{Num: 0, Den: 1}, {Num: 3, Den: 2}, {Num: -1, Den: 2}, {Num: smallest, Den: 1}, {Num: smallest, Den: greatest}, {Num: greatest, Den: 1}} {
 		want(t, "FormError", base.FormError(f), api.OK)

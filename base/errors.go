@@ -52,6 +52,26 @@ func PlaceError(p api.Spot) api.Errno {
 	)
 }
 
+// ElementsError is the error of the elements of an array in the wedge, and the number of a wrong one, or 0.
+func ElementsError(elements []api.Spot) (int, api.Errno) {
+	if e := LengthError(len(elements), api.MaxElements); e != api.OK {
+		return 0, e
+	}
+	return FirstIn(len(elements), func(n int) api.Errno {
+		return FirstOf(PlaceError(elements[n]), Unless(elements[n].Z < 0, api.ErrKind))
+	})
+}
+
+// DepthError is the error of a depth that is to be in a plate, and not at its walls.
+func DepthError(z, thick int) api.Errno {
+	return Unless(0 < z && z < thick, api.ErrBreak)
+}
+
+// PlateError is the error of a place that is to be in a plate.
+func PlateError(p api.Spot, thick int) api.Errno {
+	return FirstOf(PlaceError(p), DepthError(p.Z, thick))
+}
+
 // SpeedError is the error of a speed.
 func SpeedError(speed int) api.Errno {
 	return RangeError(speed, api.LeastSpeed, api.MaxSpeed)

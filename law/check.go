@@ -8,14 +8,7 @@ import (
 
 // CheckArray accepts an array, or returns the number of a wrong element, and the error.
 func CheckArray(a api.LawArray) (int, api.Errno) {
-	if e := base.LengthError(len(a.Elements), api.MaxElements); e != api.OK {
-		return 0, e
-	}
-	elementError := func(n int) api.Errno {
-		p := a.Elements[n]
-		return base.FirstOf(base.PlaceError(p), base.Unless(p.Z < 0, api.ErrKind))
-	}
-	if n, e := base.FirstIn(len(a.Elements), elementError); e != api.OK {
+	if n, e := base.ElementsError(a.Elements); e != api.OK {
 		return n, e
 	}
 	return 0, base.FirstOf(ray.CheckMode(a.Mode), clockError(a.Clock))
@@ -73,9 +66,4 @@ func lawOfArrayError(a api.LawArray, l api.DelayLaw) api.Errno {
 }
 
 // placeError is the error of a place where the sound of an array is to arrive by its mode.
-func placeError(m api.RayMode, p api.Spot) api.Errno {
-	return base.FirstOf(
-		base.PlaceError(p),
-		base.Unless(0 < p.Z && p.Z < m.Thick, api.ErrBreak),
-	)
-}
+func placeError(m api.RayMode, p api.Spot) api.Errno { return base.PlateError(p, m.Thick) }

@@ -5,6 +5,7 @@ import (
 	"strings"
 
 	"couplant/api"
+	"couplant/base"
 )
 
 const (
@@ -40,7 +41,7 @@ func ParseLaw(s string) (api.DelayLaw, api.Errno) {
 // lawOfText is the law with a text, right or not, if this is the text of a law.
 func lawOfText(s string) (api.DelayLaw, bool) {
 	words := strings.Split(s, " ")
-	clock, isText := number(words[0])
+	clock, isText := base.Number(words[0], mostDigits)
 	l := api.DelayLaw{Clock: clock}
 	for _, word := range words[1:] {
 		ticks, isTicks := ticksOf(word)
@@ -55,16 +56,6 @@ func ticksOf(word string) (int, bool) {
 	if word == silentWord {
 		return silent, true
 	}
-	ticks, isNumber := number(word)
+	ticks, isNumber := base.Number(word, mostDigits)
 	return ticks, isNumber && ticks >= 0
-}
-
-// number reads a number.
-func number(word string) (int, bool) {
-	n, err := strconv.Atoi(word)
-	if err != nil || len(strings.TrimPrefix(word, "-")) > mostDigits {
-		return 0, false
-	}
-	// A number that is written in another way than its own has a zero in front, or a sign too many.
-	return n, strconv.Itoa(n) == word
 }

@@ -1,0 +1,195 @@
+package bench
+
+import (
+	"strconv"
+	"strings"
+
+	"couplant/api"
+	"couplant/base"
+)
+
+const (
+	timesWord   = "times"
+	outWord     = "out"
+	backWord    = "back"
+	elementWord = "element"
+	pulseWord   = "pulse"
+
+	mostDigits = 13 // digits of a number
+)
+
+// kindWords are the words of flaws, by their kinds.
+var kindWords = [...]string{api.BenchPore: "pore", api.BenchPlane: "plane"}
+
+// FormatFlaw returns the text of a flaw, or "" if its kind is none.
+func FormatFlaw(f api.BenchFlaw) string {
+	switch f.Kind {
+	case api.BenchPore:
+		return lineOf(kindWords[f.Kind], f.From.X, f.From.Z, f.Amplitude)
+	case api.BenchPlane:
+		return lineOf(kindWords[f.Kind], f.From.X, f.From.Z, f.To.X, f.To.Z, f.Pieces, f.Amplitude, f.Tip)
+	}
+	return ""
+}
+
+// ParseFlaw returns the flaw with a text.
+func ParseFlaw(s string) (api.BenchFlaw, api.Errno) {
+	f, isText := flawOf(s)
+	if e := base.FirstOf(base.Unless(isText, api.ErrSyntax), CheckFlaw(f)); e != api.OK {
+		return api.BenchFlaw{}, e
+	}
+	return f, api.OK
+}
+
+// Print returns the text of a specimen.
+func Print(s api.BenchSpecimen) (string, api.Errno) {
+	if e := specimenError(s); e != api.OK {
+		return "", e
+	}
+	a := s.Array
+	lines := []string{
+		lineOf(timesWord, a.Times.First, a.Times.Step),
+		modeLine(outWord, a.Out),
+		modeLine(backWord, a.Back),
+	}
+	for _, p := range a.Elements {
+		lines = append(lines, lineOf(elementWord, p.X, p.Z))
+	}
+	lines = append(lines, lineOf(pulseWord, s.Pulse...))
+	for _, f := range s.Flaws {
+		lines = append(lines, FormatFlaw(f))
+	}
+	return strings.Join(lines, "\n") + "\n", api.OK
+}
+
+// Parse returns the specimen with a text, or the number of its first wrong line, and the error.
+func Parse(t string) (api.BenchSpecimen, int, api.Errno) {
+	if len(t) > api.MaxText {
+		return api.BenchSpecimen{}, 0, api.ErrLarge
+	}
+	r := reader{rest: t}
+	s, isText := r.specimen()
+	if !isText {
+		return api.BenchSpecimen{}, r.lines + 1, api.ErrSyntax
+	}
+	if e := specimenError(s); e != api.OK {
+		return api.BenchSpecimen{}, 0, e
+	}
+	return s, 0, api.OK
+}
+
+// reader reads a text line by line, each in the one form, or in one of the forms, that it may have there.
+type reader struct {
+	rest  string // what has not been read
+	lines int    // how many lines have been read
+}
+
+// specimen reads a specimen, right or not, as far as the lines have their forms; it tells whether all have.
+func (r *reader) specimen() (api.BenchSpecimen, bool) {
+	var s api.BenchSpecimen
+	a := &s.Array
+	isText := readOne(r, &a.Times, timesOf) &&
+		readOne(r, &a.Out, outOf) &&
+		readOne(r, &a.Back, backOf) &&
+		readAll(r, &a.Elements, elementOf) &&
+		readOne(r, &s.Pulse, pulseOf) &&
+		readAll(r, &s.Flaws, flawOf)
+	return s, isText && r.rest == ""
+}
+
+// readOne reads the next line if it has a form, and tells whether it has.
+func readOne[T any](r *reader, into *T, of func(line string) (T, bool)) bool {
+	line, rest, hasEnd := strings.Cut(r.rest, "\n")
+	value, isForm := of(line)
+	if !hasEnd || !isForm {
+		return false
+	}
+	*into = value
+	r.rest, r.lines = rest, r.lines+1
+	return true
+}
+
+// readAll reads the next lines as long as they have a form: there may be none, so that it never fails.
+func readAll[T any](r *reader, into *[]T, of func(line string) (T, bool)) bool {
+	var value T
+	for readOne(r, &value, of) {
+		*into = append(*into, value)
+	}
+	return true
+}
+
+// timesOf, and those below, are what a line tells, right or not, if it has their form.
+func timesOf(line string) (api.Sampling, bool) {
+	l, isForm := numbersOf(line, timesWord)
+	if !isForm || len(l) != 2 {
+		return api.Sampling{}, false
+	}
+	return api.Sampling{First: l[0], Step: l[1]}, true
+}
+
+func outOf(line string) (api.RayMode, bool) { return modeOf(line, outWord) }
+
+func backOf(line string) (api.RayMode, bool) { return modeOf(line, backWord) }
+
+func modeOf(line, word string) (api.RayMode, bool) {
+	l, isForm := numbersOf(line, word)
+	if !isForm || len(l) != 4 {
+		return api.RayMode{}, false
+	}
+	return api.RayMode{Wedge: l[0], Metal: l[1], Skips: l[2], Thick: l[3]}, true
+}
+
+func elementOf(line string) (api.Spot, bool) {
+	l, isForm := numbersOf(line, elementWord)
+	if !isForm || len(l) != 2 {
+		return api.Spot{}, false
+	}
+	return api.Spot{X: l[0], Z: l[1]}, true
+}
+
+func pulseOf(line string) ([]int, bool) {
+	l, isForm := numbersOf(line, pulseWord)
+	return l, isForm && len(l) > 0
+}
+
+func flawOf(line string) (api.BenchFlaw, bool) {
+	for kind, word := range kindWords {
+		l, isForm := numbersOf(line, word)
+		switch {
+		case isForm && kind == api.BenchPore && len(l) == 3:
+			return api.BenchFlaw{From: api.Spot{X: l[0], Z: l[1]}, Amplitude: l[2]}, true
+		case isForm && kind == api.BenchPlane && len(l) == 7:
+			return api.BenchFlaw{
+				Kind: kind, From: api.Spot{X: l[0], Z: l[1]}, To: api.Spot{X: l[2], Z: l[3]},
+				Pieces: l[4], Amplitude: l[5], Tip: l[6],
+			}, true
+		}
+	}
+	return api.BenchFlaw{}, false
+}
+
+// lineOf is a word and numbers behind it.
+func lineOf(word string, numbers ...int) string {
+	words := []string{word}
+	for _, n := range numbers {
+		words = append(words, strconv.Itoa(n))
+	}
+	return strings.Join(words, " ")
+}
+
+func modeLine(word string, m api.RayMode) string {
+	return lineOf(word, m.Wedge, m.Metal, m.Skips, m.Thick)
+}
+
+// numbersOf is the numbers of a line behind its word, if it has this form.
+func numbersOf(line, word string) ([]int, bool) {
+	words := strings.Split(line, " ")
+	isForm := words[0] == word
+	var numbers []int
+	for _, w := range words[1:] {
+		n, isNumber := base.Number(w, mostDigits)
+		isForm = isForm && isNumber
+		numbers = append(numbers, n)
+	}
+	return numbers, isForm
+}
