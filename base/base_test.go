@@ -1,6 +1,8 @@
 package base_test
 
 import (
+	"math"
+	"slices"
 	"testing"
 
 	"couplant/api"
@@ -92,6 +94,28 @@ func TestElementsError(t *testing.T) {
 	}
 }
 
+func TestPairs(t *testing.T) {
+	for n, right := range map[int]api.Errno{smallest: api.ErrMissing, -1: api.ErrMissing, 0: api.OK, 2: api.OK, 3: api.ErrMissing, greatest: api.ErrMissing} {
+		want(t, "ElementError", base.ElementError(n, 3), right)
+		want(t, "PairError of the first one", base.PairError([2]int{n, 1}, 3), right)
+		want(t, "PairError of the second one", base.PairError([2]int{1, n}, 3), right)
+	}
+	want(t, "ElementError of none", base.ElementError(0, 0), api.ErrMissing)
+}
+
+func TestDeadError(t *testing.T) {
+	for _, x := range []struct {
+		dead  []int
+		right api.Errno
+	}{
+		{nil, api.OK}, {[]int{0, 1, 2}, api.OK}, {[]int{2}, api.OK},
+		{[]int{3}, api.ErrMissing}, {[]int{-1}, api.ErrMissing}, {[]int{1, 1}, api.ErrOrder}, {[]int{1, 0}, api.ErrOrder},
+		{[]int{1, -1}, api.ErrMissing}, {[]int{1, 1, 3}, api.ErrOrder}, {[]int{0, 3, 3}, api.ErrMissing},
+	} {
+		want(t, "DeadError", base.DeadError(x.dead, 3), x.right)
+	}
+}
+
 func TestPlates(t *testing.T) {
 	for z, right := range map[int]api.Errno{smallest: api.ErrBreak, -1: api.ErrBreak, 0: api.ErrBreak, 1: api.OK, 9: api.OK, 10: api.ErrBreak, 11: api.ErrBreak, greatest: api.ErrBreak} {
 		want(t, "DepthError", base.DepthError(z, 10), right)
@@ -116,6 +140,75 @@ func TestNumber(t *testing.T) {
 	n, isNumber := base.Number("-9223372036854775808", 19)
 	want(t, "the smallest Number", n, smallest)
 	want(t, "whether it is one", isNumber, true)
+}
+
+func TestNumbersInTexts(t *testing.T) {
+	for _, x := range []struct {
+		text   string
+		right  []int
+		isForm bool
+	}{
+		{"5", []int{5}, true}, {"0 -5 999", []int{0, -5, 999}, true},
+		{"", nil, false}, {" ", nil, false}, {" 5", nil, false}, {"5 ", nil, false}, {"5  6", nil, false}, {"5 x", nil, false}, {"x 5", nil, false}, {"5 1000", nil, false}, {"5\t6", nil, false}, {"5\n", nil, false}, {"05", nil, false},
+	} {
+		l, isForm := base.Numbers(x.text, 3)
+		want(t, "Numbers of "+x.text, slices.Equal(l, x.right), true)
+		want(t, "whether they are some: "+x.text, isForm, x.isForm)
+		l, isForm = base.NumbersBehind("word", "word "+x.text, 3)
+		want(t, "NumbersBehind of "+x.text, slices.Equal(l, x.right), true)
+		want(t, "whether they are some: "+x.text, isForm, x.isForm)
+		if x.isForm {
+			want(t, "Spaced", base.Spaced(x.right...), x.text)
+		}
+	}
+	l, isForm := base.NumbersBehind("word", "word", 3)
+	want(t, "NumbersBehind of none", len(l), 0)
+	want(t, "whether there may be none", isForm, true)
+	for _, text := range []string{"", "wor", "words", "words 5", "wor 5", " word 5", "5", "Word 5", "word5"} {
+		l, isForm := base.NumbersBehind("word", text, 3)
+		want(t, "NumbersBehind of "+text, len(l), 0)
+		want(t, "whether it is some: "+text, isForm, false)
+	}
+	want(t, "Spaced of none", base.Spaced(), "")
+	want(t, "Spaced of great ones", base.Spaced(smallest, greatest), "-9223372036854775808 9223372036854775807")
+}
+
+func TestLines(t *testing.T) {
+	is := func(word string) func(string) (string, bool) {
+		return func(line string) (string, bool) { return line, line == word }
+	}
+	l := base.LinesOf("a\nb\nb\nc")
+	var one string
+	var all []string
+	want(t, "the line ahead of all", l.Next(), 1)
+	want(t, "ReadOne of another line", base.ReadOne(l, &one, is("b")), false)
+	want(t, "what it has read", one, "")
+	want(t, "the line behind it", l.Next(), 1)
+	want(t, "ReadOne", base.ReadOne(l, &one, is("a")), true)
+	want(t, "what it has read", one, "a")
+	want(t, "the line behind it", l.Next(), 2)
+	want(t, "ReadAll of none", base.ReadAll(l, &all, is("a")), true)
+	want(t, "what it has read", len(all), 0)
+	want(t, "ReadAll", base.ReadAll(l, &all, is("b")), true)
+	want(t, "what it has read", slices.Equal(all, []string{"b", "b"}), true)
+	want(t, "the line behind it", l.Next(), 4)
+	want(t, "ReadOne without a line feed", base.ReadOne(l, &one, is("c")), false)
+	want(t, "whether that is the end", l.AtEnd(), false)
+	l = base.LinesOf("a\n")
+	base.ReadOne(l, &one, is("a"))
+	want(t, "whether this is the end", l.AtEnd(), true)
+	want(t, "ReadOne at the end", base.ReadOne(l, &one, is("")), false)
+	want(t, "the line that is not there", l.Next(), 2)
+	want(t, "the end of nothing", base.LinesOf("").AtEnd(), true)
+}
+
+func TestIsWhole(t *testing.T) {
+	for _, f := range []float64{0, math.Copysign(0, -1), 1, -7, 1e300, -math.MaxFloat64} {
+		want(t, "IsWhole", base.IsWhole(f), true)
+	}
+	for _, f := range []float64{0.5, -0.5, 1e7 + 0.25, math.SmallestNonzeroFloat64, math.NaN(), math.Inf(1), math.Inf(-1)} {
+		want(t, "IsWhole of a part", base.IsWhole(f), false)
+	}
 }
 
 func TestFormError(t *testing.T) {

@@ -62,6 +62,24 @@ func ElementsError(elements []api.Spot) (int, api.Errno) {
 	})
 }
 
+// ElementError is the error of the number of an element, if there are so many elements.
+func ElementError(n, elements int) api.Errno {
+	return Unless(Within(n, 0, elements-1), api.ErrMissing)
+}
+
+// PairError is the error of a pair of elements, if there are so many elements.
+func PairError(pair [2]int, elements int) api.Errno {
+	return FirstOf(ElementError(pair[0], elements), ElementError(pair[1], elements))
+}
+
+// DeadError is the error of the numbers of dead elements, if there are so many elements.
+func DeadError(dead []int, elements int) api.Errno {
+	_, e := FirstIn(len(dead), func(n int) api.Errno {
+		return FirstOf(ElementError(dead[n], elements), RiseError(dead, n))
+	})
+	return e
+}
+
 // DepthError is the error of a depth that is to be in a plate, and not at its walls.
 func DepthError(z, thick int) api.Errno {
 	return Unless(0 < z && z < thick, api.ErrBreak)

@@ -1,6 +1,10 @@
 package base
 
-import "couplant/api"
+import (
+	"math"
+
+	"couplant/api"
+)
 
 // Within tells whether a number is from least to most.
 func Within(n, least, most int) bool { return least <= n && n <= most }
@@ -26,6 +30,12 @@ func Size(n int) int {
 		return -n
 	}
 	return n
+}
+
+// IsWhole tells whether a float is a whole number.
+func IsWhole(f float64) bool {
+	// What is no number is not the same as its whole part; what is infinite is.
+	return f == math.Trunc(f) && !math.IsInf(f, 0)
 }
 
 // CommonDivisor is the greatest common divisor of two numbers; b is above 0.

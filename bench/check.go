@@ -82,16 +82,9 @@ func placeError(a api.BenchArray, at api.Spot) api.Errno {
 	return base.PlateError(at, a.Out.Thick)
 }
 
-// pairError is the error of a pair of a right array.
-func pairError(a api.BenchArray, pair [2]int) api.Errno {
-	last := len(a.Elements) - 1
-	isThere := base.Within(pair[0], 0, last) && base.Within(pair[1], 0, last)
-	return base.Unless(isThere, api.ErrMissing)
-}
-
 // echoError is the error of an array, a place of it, and a pair.
 func echoError(a api.BenchArray, at api.Spot, pair [2]int) api.Errno {
-	return base.FirstOf(arrayError(a), placeError(a, at), pairError(a, pair))
+	return base.FirstOf(arrayError(a), placeError(a, at), base.PairError(pair, len(a.Elements)))
 }
 
 // pulseError is the error of a pulse.

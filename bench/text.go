@@ -1,7 +1,6 @@
 package bench
 
 import (
-	"strconv"
 	"strings"
 
 	"couplant/api"
@@ -67,10 +66,10 @@ func Parse(t string) (api.BenchSpecimen, int, api.Errno) {
 	if len(t) > api.MaxText {
 		return api.BenchSpecimen{}, 0, api.ErrLarge
 	}
-	r := reader{rest: t}
-	s, isText := r.specimen()
+	l := base.LinesOf(t)
+	s, isText := readSpecimen(l)
 	if !isText {
-		return api.BenchSpecimen{}, r.lines + 1, api.ErrSyntax
+		return api.BenchSpecimen{}, l.Next(), api.ErrSyntax
 	}
 	if e := specimenError(s); e != api.OK {
 		return api.BenchSpecimen{}, 0, e
@@ -78,44 +77,17 @@ func Parse(t string) (api.BenchSpecimen, int, api.Errno) {
 	return s, 0, api.OK
 }
 
-// reader reads a text line by line, each in the one form, or in one of the forms, that it may have there.
-type reader struct {
-	rest  string // what has not been read
-	lines int    // how many lines have been read
-}
-
-// specimen reads a specimen, right or not, as far as the lines have their forms; it tells whether all have.
-func (r *reader) specimen() (api.BenchSpecimen, bool) {
+// readSpecimen reads a specimen, right or not, as far as the lines have their forms; it tells whether all have.
+func readSpecimen(l *base.Lines) (api.BenchSpecimen, bool) {
 	var s api.BenchSpecimen
 	a := &s.Array
-	isText := readOne(r, &a.Times, timesOf) &&
-		readOne(r, &a.Out, outOf) &&
-		readOne(r, &a.Back, backOf) &&
-		readAll(r, &a.Elements, elementOf) &&
-		readOne(r, &s.Pulse, pulseOf) &&
-		readAll(r, &s.Flaws, flawOf)
-	return s, isText && r.rest == ""
-}
-
-// readOne reads the next line if it has a form, and tells whether it has.
-func readOne[T any](r *reader, into *T, of func(line string) (T, bool)) bool {
-	line, rest, hasEnd := strings.Cut(r.rest, "\n")
-	value, isForm := of(line)
-	if !hasEnd || !isForm {
-		return false
-	}
-	*into = value
-	r.rest, r.lines = rest, r.lines+1
-	return true
-}
-
-// readAll reads the next lines as long as they have a form: there may be none, so that it never fails.
-func readAll[T any](r *reader, into *[]T, of func(line string) (T, bool)) bool {
-	var value T
-	for readOne(r, &value, of) {
-		*into = append(*into, value)
-	}
-	return true
+	isText := base.ReadOne(l, &a.Times, timesOf) &&
+		base.ReadOne(l, &a.Out, outOf) &&
+		base.ReadOne(l, &a.Back, backOf) &&
+		base.ReadAll(l, &a.Elements, elementOf) &&
+		base.ReadOne(l, &s.Pulse, pulseOf) &&
+		base.ReadAll(l, &s.Flaws, flawOf)
+	return s, isText && l.AtEnd()
 }
 
 // timesOf, and those below, are what a line tells, right or not, if it has their form.
@@ -170,11 +142,7 @@ func flawOf(line string) (api.BenchFlaw, bool) {
 
 // lineOf is a word and numbers behind it.
 func lineOf(word string, numbers ...int) string {
-	words := []string{word}
-	for _, n := range numbers {
-		words = append(words, strconv.Itoa(n))
-	}
-	return strings.Join(words, " ")
+	return word + " " + base.Spaced(numbers...)
 }
 
 func modeLine(word string, m api.RayMode) string {
@@ -183,13 +151,5 @@ func modeLine(word string, m api.RayMode) string {
 
 // numbersOf is the numbers of a line behind its word, if it has this form.
 func numbersOf(line, word string) ([]int, bool) {
-	words := strings.Split(line, " ")
-	isForm := words[0] == word
-	var numbers []int
-	for _, w := range words[1:] {
-		n, isNumber := base.Number(w, mostDigits)
-		isForm = isForm && isNumber
-		numbers = append(numbers, n)
-	}
-	return numbers, isForm
+	return base.NumbersBehind(word, line, mostDigits)
 }

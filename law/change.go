@@ -12,14 +12,7 @@ const silent = -1
 
 // Without returns a law in which some elements do not send.
 func Without(l api.DelayLaw, dead []int) (api.DelayLaw, api.Errno) {
-	if e := lawError(l); e != api.OK {
-		return api.DelayLaw{}, e
-	}
-	_, e := base.FirstIn(len(dead), func(n int) api.Errno {
-		isThere := base.Within(dead[n], 0, len(l.Ticks)-1)
-		return base.FirstOf(base.Unless(isThere, api.ErrMissing), base.RiseError(dead, n))
-	})
-	if e != api.OK {
+	if e := base.FirstOf(lawError(l), base.DeadError(dead, len(l.Ticks))); e != api.OK {
 		return api.DelayLaw{}, e
 	}
 	ticks := slices.Clone(l.Ticks)

@@ -37,8 +37,7 @@ func samplesError(samples []float32) (int, api.Errno) {
 // sampleError is the error of a sample.
 func sampleError(sample float64) api.Errno {
 	switch {
-	// What is no number is not the same as its whole part; what is infinite is.
-	case sample != math.Trunc(sample), math.IsInf(sample, 0):
+	case !base.IsWhole(sample):
 		return api.ErrWhole
 	case math.Abs(sample) > api.MaxSample:
 		return api.ErrRange
@@ -56,13 +55,6 @@ func traceError(t api.Trace) api.Errno {
 func matrixError(m api.FullMatrix) api.Errno {
 	_, e := CheckMatrix(m)
 	return e
-}
-
-// pairError is the error of a pair of a right matrix.
-func pairError(m api.FullMatrix, pair [2]int) api.Errno {
-	last := m.Elements - 1
-	isThere := base.Within(pair[0], 0, last) && base.Within(pair[1], 0, last)
-	return base.Unless(isThere, api.ErrMissing)
 }
 
 // gateError is the error of a gate.
