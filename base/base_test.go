@@ -43,6 +43,25 @@ func TestErrors(t *testing.T) {
 	}
 }
 
+func TestEndsError(t *testing.T) {
+	for _, r := range []api.Range{{Lo: -3, Hi: 7}, {Lo: 2, Hi: 2}, {Lo: -3, Hi: -3}, {Lo: 7, Hi: 7}} {
+		want(t, "EndsError", base.EndsError(r, -3, 7), api.OK)
+	}
+	for _, r := range []api.Range{{Lo: -4, Hi: 7}, {Lo: -3, Hi: 8}, {Lo: 8, Hi: 7}, {Lo: 8, Hi: 9}, {Lo: -5, Hi: -4}, {Lo: 0, Hi: -4}, {Lo: smallest, Hi: greatest}, {Lo: greatest, Hi: smallest}} {
+		want(t, "EndsError outside", base.EndsError(r, -3, 7), api.ErrRange)
+	}
+	want(t, "EndsError the other way round", base.EndsError(api.Range{Lo: 3, Hi: 2}, -3, 7), api.ErrOrder)
+}
+
+func TestNameError(t *testing.T) {
+	for _, name := range []string{"A", "Z", "a", "z", "a-", "a0", "Z9-z", "abcdefghijkl", "a-----------"} {
+		want(t, "NameError of "+name, base.NameError(name), api.OK)
+	}
+	for _, name := range []string{"", "-", "0", "9a", "-a", "abcdefghijklm", "a b", " a", "a ", "a\n", "a\t", "a_", "a.", "a+", "a,", "a/", "a:", "a@", "a[", "a`", "a{", "@", "[", "`", "{", "ä", "aä", "\xff", "a\x00"} {
+		want(t, "NameError of "+name, base.NameError(name), api.ErrName)
+	}
+}
+
 func TestFirstIn(t *testing.T) {
 	for _, x := range []struct {
 		l []api.Errno

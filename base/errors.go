@@ -44,6 +44,18 @@ func RangeError(n, least, most int) api.Errno {
 	return Unless(Within(n, least, most), api.ErrRange)
 }
 
+// EndsError is the error of a range whose ends are to be from least to most.
+func EndsError(r api.Range, least, most int) api.Errno {
+	return FirstOf(
+		RangeError(r.Lo, least, most),
+		RangeError(r.Hi, least, most),
+		Unless(r.Lo <= r.Hi, api.ErrOrder),
+	)
+}
+
+// NameError is the error of a name.
+func NameError(name string) api.Errno { return Unless(isName(name), api.ErrName) }
+
 // PlaceError is the error of a place.
 func PlaceError(p api.Spot) api.Errno {
 	return FirstOf(

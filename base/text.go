@@ -3,7 +3,26 @@ package base
 import (
 	"strconv"
 	"strings"
+
+	"couplant/api"
 )
+
+// isName tells whether a word is a name.
+func isName(word string) bool {
+	for n := range len(word) {
+		b := word[n]
+		if !isLetter(b) && (n == 0 || !isDigit(b) && b != '-') {
+			return false
+		}
+	}
+	return Within(len(word), 1, api.MaxName)
+}
+
+// isLetter tells whether a byte is a letter.
+func isLetter(b byte) bool { return 'A' <= b && b <= 'Z' || 'a' <= b && b <= 'z' }
+
+// isDigit tells whether a byte is a digit.
+func isDigit(b byte) bool { return '0' <= b && b <= '9' }
 
 // Number reads a number of so many digits at most; it tells whether a word is one.
 func Number(word string, digits int) (int, bool) {

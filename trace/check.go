@@ -65,6 +65,3 @@ func gateError(g api.TraceGate) api.Errno {
 		base.Unless(g.From <= g.To, api.ErrOrder),
 	)
 }
-
-// timeError is the error of a time.
-func timeError(time int) api.Errno { return base.RangeError(time, -api.MaxTime, api.MaxTime) }

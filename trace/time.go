@@ -23,7 +23,7 @@ func TimeOf(s api.Sampling, sample int) (int, api.Errno) {
 
 // Nearest returns the sample whose time is nearest.
 func Nearest(s api.Sampling, time int) (int, api.Errno) {
-	if e := base.FirstOf(CheckSampling(s), timeError(time)); e != api.OK {
+	if e := base.FirstOf(CheckSampling(s), base.RangeError(time, -api.MaxTime, api.MaxTime)); e != api.OK {
 		return 0, e
 	}
 	sample := base.Rounded(time-s.First, s.Step)
@@ -37,9 +37,7 @@ func Nearest(s api.Sampling, time int) (int, api.Errno) {
 func GateOf(s api.Sampling, times api.Range) (api.TraceGate, api.Errno) {
 	e := base.FirstOf(
 		CheckSampling(s),
-		timeError(times.Lo),
-		timeError(times.Hi),
-		base.Unless(times.Lo <= times.Hi, api.ErrOrder),
+		base.EndsError(times, -api.MaxTime, api.MaxTime),
 	)
 	if e != api.OK {
 		return api.TraceGate{}, e
