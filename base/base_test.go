@@ -62,6 +62,15 @@ func TestNameError(t *testing.T) {
 	}
 }
 
+func TestExistsError(t *testing.T) {
+	l := []string{"a", "b", "a", "", "B", "", "c"}
+	itself := func(x string) string { return x }
+	for n, right := range []api.Errno{api.OK, api.OK, api.ErrExists, api.OK, api.OK, api.ErrExists, api.OK} {
+		want(t, "ExistsError", base.ExistsError(l, n, itself), right)
+	}
+	want(t, "ExistsError of another name", base.ExistsError(l, 1, func(string) string { return "x" }), api.ErrExists)
+}
+
 func TestFirstIn(t *testing.T) {
 	for _, x := range []struct {
 		l []api.Errno
@@ -192,6 +201,35 @@ func TestNumbersInTexts(t *testing.T) {
 	want(t, "Spaced of great ones", base.Spaced(smallest, greatest), "-9223372036854775808 9223372036854775807")
 }
 
+func TestWordAndNumbers(t *testing.T) {
+	for _, x := range []struct {
+		text, word string
+		right      []int
+		isForm     bool
+	}{
+		{"a 5", "a", []int{5}, true}, {" 5 -6", "", []int{5, -6}, true}, {"-5 6", "-5", []int{6}, true}, {"\xff\t\x00 0 999 7", "\xff\t\x00", []int{0, 999, 7}, true},
+		{"", "", nil, false}, {"a", "", nil, false}, {"a ", "", nil, false}, {" ", "", nil, false}, {"5", "", nil, false}, {"a  5", "", nil, false}, {"a 5 ", "", nil, false}, {"a b 5", "", nil, false}, {"a 1000", "", nil, false},
+		{"a\n 5", "", nil, false}, {"\na 5", "", nil, false}, {"\n 5", "", nil, false}, {"a 5\n", "", nil, false}, {"a 5\n6", "", nil, false}, {"a\t5", "", nil, false},
+	} {
+		word, l, isForm := base.WordAndNumbers(x.text, 3)
+		want(t, "the word of "+x.text, word, x.word)
+		want(t, "the numbers of "+x.text, slices.Equal(l, x.right), true)
+		want(t, "whether it is one: "+x.text, isForm, x.isForm)
+	}
+}
+
+func TestWordsOf(t *testing.T) {
+	for line, right := range map[string][]base.Word{
+		"": nil, "\n": nil, " \t ": nil, "\t\n": nil, "a": {{Text: "a", Column: 1}}, "ab\n": {{Text: "ab", Column: 1}}, " ab ": {{Text: "ab", Column: 2}},
+		"a b": {{Text: "a", Column: 1}, {Text: "b", Column: 3}}, "\tabc \t de\n": {{Text: "abc", Column: 2}, {Text: "de", Column: 8}}, "a\r\n": {{Text: "a\r", Column: 1}},
+		"\xff\x00\v a\u00a0b": {{Text: "\xff\x00\v", Column: 1}, {Text: "a\u00a0b", Column: 5}},
+	} {
+		words := base.WordsOf(line)
+		want(t, "the words of "+line, slices.Equal(words, right), true)
+	}
+	want(t, "the end of a word", base.Word{Text: "abc", Column: 2}.End(), 5)
+}
+
 func TestLines(t *testing.T) {
 	is := func(word string) func(string) (string, bool) {
 		return func(line string) (string, bool) { return line, line == word }
@@ -248,6 +286,12 @@ func TestNumbers(t *testing.T) {
 		want(t, "DividedDown", base.DividedDown(x.n, x.by), x.down)
 		want(t, "DividedUp", base.DividedUp(x.n, x.by), x.up)
 		want(t, "Rounded", base.Rounded(x.n, x.by), x.near)
+	}
+	for _, x := range [][5]int{
+		{0, 0, 0, 0, 0}, {1, 0, 0, 1, 0}, {2, 3, 6, 1, 0}, {2, 3, 5, 1, 1}, {2, 3, 7, 1, -1}, {greatest, greatest, greatest, greatest, 0}, {greatest, greatest, greatest, greatest - 1, 1}, {greatest - 1, greatest, greatest, greatest, -1},
+		{1 << 32, 1 << 32, 0, 5, 1}, {5, 0, 1 << 32, 1 << 32, -1}, {1 << 40, 1 << 40, 1 << 41, 1 << 39, 0}, {1<<40 + 1, 1<<40 - 1, 1 << 40, 1 << 40, -1}, {1 << 62, 4, 1, greatest, 1}, {1 << 62, 8, 1 << 62, 7, 1},
+	} {
+		want(t, "ComparedProducts", base.ComparedProducts(x[0], x[1], x[2], x[3]), x[4])
 	}
 	want(t, "Size", base.Size(-5), 5)
 	want(t, "Size", base.Size(5), 5)

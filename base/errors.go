@@ -1,7 +1,11 @@
 // Package base is what the layers share: errors in their order, and whole numbers.
 package base
 
-import "couplant/api"
+import (
+	"slices"
+
+	"couplant/api"
+)
 
 // FirstOf returns the first of some errors, or OK if all of them are OK.
 func FirstOf(errors ...api.Errno) api.Errno {
@@ -55,6 +59,12 @@ func EndsError(r api.Range, least, most int) api.Errno {
 
 // NameError is the error of a name.
 func NameError(name string) api.Errno { return Unless(isName(name), api.ErrName) }
+
+// ExistsError is the error of an element of a list whose name an earlier one has.
+func ExistsError[T any](l []T, n int, nameOf func(x T) string) api.Errno {
+	hasName := func(x T) bool { return nameOf(x) == nameOf(l[n]) }
+	return Unless(!slices.ContainsFunc(l[:n], hasName), api.ErrExists)
+}
 
 // PlaceError is the error of a place.
 func PlaceError(p api.Spot) api.Errno {

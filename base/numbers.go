@@ -1,7 +1,9 @@
 package base
 
 import (
+	"cmp"
 	"math"
+	"math/bits"
 
 	"couplant/api"
 )
@@ -30,6 +32,13 @@ func Size(n int) int {
 		return -n
 	}
 	return n
+}
+
+// ComparedProducts is the sign of a b less c d, whatever their size; none of them is below 0.
+func ComparedProducts(a, b, c, d int) int {
+	abHigh, abLow := bits.Mul64(uint64(a), uint64(b))
+	cdHigh, cdLow := bits.Mul64(uint64(c), uint64(d))
+	return cmp.Or(cmp.Compare(abHigh, cdHigh), cmp.Compare(abLow, cdLow))
 }
 
 // IsWhole tells whether a float is a whole number.

@@ -62,6 +62,16 @@ func NumbersBehind(word, text string, digits int) ([]int, bool) {
 	return Numbers(rest, digits)
 }
 
+// WordAndNumbers reads a word, which is any bytes but blanks and line feeds, or none, and the numbers behind it; it tells whether a text has this form.
+func WordAndNumbers(text string, digits int) (string, []int, bool) {
+	word, rest, _ := strings.Cut(text, " ")
+	numbers, isForm := Numbers(rest, digits)
+	if !isForm || strings.Contains(word, "\n") {
+		return "", nil, false
+	}
+	return word, numbers, true
+}
+
 // Spaced is the text of numbers, with single blanks between.
 func Spaced(numbers ...int) string {
 	var words []string

@@ -87,7 +87,7 @@ func (c crossing) slope(at int) int {
 	before, behind := at-c.X1, c.X2-at
 	// Between the two places both terms of the slope have one sign, so that
 	// their squares tell which of them is greater, without roots.
-	sign := compareProducts(
+	sign := base.ComparedProducts(
 		before*before, c.V2*c.V2*(behind*behind+c.H2*c.H2),
 		behind*behind, c.V1*c.V1*(before*before+c.H1*c.H1),
 	)

@@ -1,9 +1,6 @@
 package ray
 
-import (
-	"cmp"
-	"math/bits"
-)
+import "math/bits"
 
 // root is the square root of a number from 0 on, rounded down.
 func root(n int) int {
@@ -19,11 +16,4 @@ func root(n int) int {
 		}
 		r = next
 	}
-}
-
-// compareProducts is the sign of a b less c d, whatever their size.
-func compareProducts(a, b, c, d int) int {
-	abHigh, abLow := bits.Mul64(uint64(a), uint64(b))
-	cdHigh, cdLow := bits.Mul64(uint64(c), uint64(d))
-	return cmp.Or(cmp.Compare(abHigh, cdHigh), cmp.Compare(abLow, cdLow))
 }

@@ -1,8 +1,6 @@
 package tune
 
 import (
-	"slices"
-
 	"couplant/api"
 	"couplant/base"
 )
@@ -13,10 +11,9 @@ func CheckSteps(l []api.TuneStep) (int, api.Errno) {
 		return 0, e
 	}
 	return base.FirstIn(len(l), func(n int) api.Errno {
-		hasName := func(x api.TuneStep) bool { return x.Name == l[n].Name }
 		return base.FirstOf(
 			base.NameError(l[n].Name),
-			base.Unless(!slices.ContainsFunc(l[:n], hasName), api.ErrExists),
+			base.ExistsError(l, n, nameOf),
 			base.RangeError(l[n].Lasts, 1, api.MaxTuneLasts),
 			base.RangeError(l[n].Warm, 0, api.MaxTuneWarm),
 			needsError(l[n].Needs, n),
@@ -75,6 +72,9 @@ func ToDo(l []api.TuneStep, events []api.TuneEvent, minute int) ([]int, api.Errn
 	}
 	return numbers, api.OK
 }
+
+// nameOf is the name of a step.
+func nameOf(x api.TuneStep) string { return x.Name }
 
 // needsError is the error of what a step needs.
 func needsError(needs []int, step int) api.Errno {
