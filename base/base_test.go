@@ -124,23 +124,23 @@ func TestElementsError(t *testing.T) {
 
 func TestPairs(t *testing.T) {
 	for n, right := range map[int]api.Errno{smallest: api.ErrMissing, -1: api.ErrMissing, 0: api.OK, 2: api.OK, 3: api.ErrMissing, greatest: api.ErrMissing} {
-		want(t, "ElementError", base.ElementError(n, 3), right)
+		want(t, "MissingError", base.MissingError(n, 3), right)
 		want(t, "PairError of the first one", base.PairError([2]int{n, 1}, 3), right)
 		want(t, "PairError of the second one", base.PairError([2]int{1, n}, 3), right)
 	}
-	want(t, "ElementError of none", base.ElementError(0, 0), api.ErrMissing)
+	want(t, "MissingError of none", base.MissingError(0, 0), api.ErrMissing)
 }
 
-func TestDeadError(t *testing.T) {
+func TestNumbersError(t *testing.T) {
 	for _, x := range []struct {
-		dead  []int
+		l     []int
 		right api.Errno
 	}{
 		{nil, api.OK}, {[]int{0, 1, 2}, api.OK}, {[]int{2}, api.OK},
 		{[]int{3}, api.ErrMissing}, {[]int{-1}, api.ErrMissing}, {[]int{1, 1}, api.ErrOrder}, {[]int{1, 0}, api.ErrOrder},
 		{[]int{1, -1}, api.ErrMissing}, {[]int{1, 1, 3}, api.ErrOrder}, {[]int{0, 3, 3}, api.ErrMissing},
 	} {
-		want(t, "DeadError", base.DeadError(x.dead, 3), x.right)
+		want(t, "NumbersError", base.NumbersError(x.l, 3), x.right)
 	}
 }
 
@@ -293,6 +293,19 @@ func TestNumbers(t *testing.T) {
 	} {
 		want(t, "ComparedProducts", base.ComparedProducts(x[0], x[1], x[2], x[3]), x[4])
 	}
+	for n := range 10000 {
+		down, up := base.RootDown(n), base.RootUp(n)
+		want(t, "whether RootDown is right", down*down <= n && n < (down+1)*(down+1), true)
+		want(t, "whether RootUp is right", up*up >= n && (up == 0 || (up-1)*(up-1) < n), true)
+	}
+	for _, r := range []int{100, 65536, 299999999, 500000000, 3037000498} {
+		want(t, "RootDown of a square", base.RootDown(r*r), r)
+		want(t, "RootUp of a square", base.RootUp(r*r), r)
+		want(t, "RootDown below a square", base.RootDown(r*r-1), r-1)
+		want(t, "RootUp above a square", base.RootUp(r*r+1), r+1)
+	}
+	want(t, "RootDown of the greatest number", base.RootDown(greatest), 3037000499)
+	want(t, "RootUp of the greatest number", base.RootUp(greatest), 3037000500)
 	want(t, "Size", base.Size(-5), 5)
 	want(t, "Size", base.Size(5), 5)
 	want(t, "CommonDivisor", base.CommonDivisor(-12, 18), 6)

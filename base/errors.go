@@ -84,22 +84,22 @@ func ElementsError(elements []api.Spot) (int, api.Errno) {
 	})
 }
 
-// ElementError is the error of the number of an element, if there are so many elements.
-func ElementError(n, elements int) api.Errno {
+// MissingError is the error of a number of a list, if this has so many elements.
+func MissingError(n, elements int) api.Errno {
 	return Unless(Within(n, 0, elements-1), api.ErrMissing)
+}
+
+// NumbersError is the error of numbers of a list that are to ascend, if this has so many elements.
+func NumbersError(l []int, elements int) api.Errno {
+	_, e := FirstIn(len(l), func(n int) api.Errno {
+		return FirstOf(MissingError(l[n], elements), RiseError(l, n))
+	})
+	return e
 }
 
 // PairError is the error of a pair of elements, if there are so many elements.
 func PairError(pair [2]int, elements int) api.Errno {
-	return FirstOf(ElementError(pair[0], elements), ElementError(pair[1], elements))
-}
-
-// DeadError is the error of the numbers of dead elements, if there are so many elements.
-func DeadError(dead []int, elements int) api.Errno {
-	_, e := FirstIn(len(dead), func(n int) api.Errno {
-		return FirstOf(ElementError(dead[n], elements), RiseError(dead, n))
-	})
-	return e
+	return FirstOf(MissingError(pair[0], elements), MissingError(pair[1], elements))
 }
 
 // DepthError is the error of a depth that is to be in a plate, and not at its walls.

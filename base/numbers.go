@@ -26,6 +26,31 @@ func DividedUp(n, by int) int { return -DividedDown(-n, by) }
 // Rounded is n / by, rounded to the nearest whole number, halves up; by is above 0.
 func Rounded(n, by int) int { return DividedDown(2*n+by, 2*by) }
 
+// RootDown is the square root of a number from 0 on, rounded down.
+func RootDown(n int) int {
+	if n < 2 {
+		return n
+	}
+	// Newton's steps fall to the root, and stop there, as long as they begin above it.
+	r := 1 << ((bits.Len(uint(n)) + 1) / 2)
+	for {
+		next := (r + n/r) / 2
+		if next >= r {
+			return r
+		}
+		r = next
+	}
+}
+
+// RootUp is the square root of a number from 0 on, rounded up.
+func RootUp(n int) int {
+	r := RootDown(n)
+	if r*r < n {
+		r++
+	}
+	return r
+}
+
 // Size is a number without its sign.
 func Size(n int) int {
 	if n < 0 {

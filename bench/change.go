@@ -11,7 +11,7 @@ import (
 func Without(s api.BenchSpecimen, flaw int) (api.BenchSpecimen, api.Errno) {
 	e := base.FirstOf(
 		specimenError(s),
-		base.Unless(base.Within(flaw, 0, len(s.Flaws)-1), api.ErrMissing),
+		base.MissingError(flaw, len(s.Flaws)),
 	)
 	if e != api.OK {
 		return api.BenchSpecimen{}, e

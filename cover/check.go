@@ -63,7 +63,7 @@ func jointError(j api.CoverJoint) api.Errno {
 func faceError(j api.CoverJoint, face int) api.Errno {
 	return base.FirstOf(
 		jointError(j),
-		base.Unless(base.Within(face, 0, len(j.Faces)-1), api.ErrMissing),
+		base.MissingError(face, len(j.Faces)),
 	)
 }
 

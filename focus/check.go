@@ -44,7 +44,7 @@ func taskError(t api.FocusTask) api.Errno {
 
 // cellError is the error of a cell of a right grid.
 func cellError(g api.FocusGrid, cell int) api.Errno {
-	return base.Unless(base.Within(cell, 0, grid(g).cells()-1), api.ErrMissing)
+	return base.MissingError(cell, grid(g).cells())
 }
 
 // pairAtError is the error of a task, a cell of it, and a pair.
@@ -60,7 +60,7 @@ func pairAtError(t api.FocusTask, cell int, pair [2]int) api.Errno {
 func firingsError(firings []int, elements int, stood map[int]bool) api.Errno {
 	for _, firing := range firings {
 		e := base.FirstOf(
-			base.ElementError(firing, elements),
+			base.MissingError(firing, elements),
 			base.Unless(!stood[firing], api.ErrDouble),
 		)
 		if e != api.OK {

@@ -12,7 +12,7 @@ const silent = -1
 
 // Without returns a law in which some elements do not send.
 func Without(l api.DelayLaw, dead []int) (api.DelayLaw, api.Errno) {
-	if e := base.FirstOf(lawError(l), base.DeadError(dead, len(l.Ticks))); e != api.OK {
+	if e := base.FirstOf(lawError(l), base.NumbersError(dead, len(l.Ticks))); e != api.OK {
 		return api.DelayLaw{}, e
 	}
 	ticks := slices.Clone(l.Ticks)

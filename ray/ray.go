@@ -29,11 +29,7 @@ func lengthOf(a, b api.Spot) api.Range {
 	}
 	across, down := b.X-a.X, b.Z-a.Z
 	square := 1000000 * (across*across + down*down)
-	r := api.Range{Lo: root(square), Hi: root(square)}
-	if r.Lo*r.Lo < square {
-		r.Hi++
-	}
-	return r
+	return api.Range{Lo: base.RootDown(square), Hi: base.RootUp(square)}
 }
 
 // legTime is TimeOf of right places and a right speed.

@@ -16,7 +16,7 @@ func CheckSteps(l []api.TuneStep) (int, api.Errno) {
 			base.ExistsError(l, n, nameOf),
 			base.RangeError(l[n].Lasts, 1, api.MaxTuneLasts),
 			base.RangeError(l[n].Warm, 0, api.MaxTuneWarm),
-			needsError(l[n].Needs, n),
+			base.NumbersError(l[n].Needs, n),
 		)
 	})
 }
@@ -48,7 +48,7 @@ func ValidAt(l []api.TuneStep, events []api.TuneEvent, minute int) ([]bool, api.
 // UntilOf returns the last minute at which a step is valid, if nothing more happens.
 func UntilOf(l []api.TuneStep, events []api.TuneEvent, step int) (int, api.Errno) {
 	p, _, e := behind(l, events)
-	if e = base.FirstOf(e, base.Unless(base.Within(step, 0, len(l)-1), api.ErrMissing)); e != api.OK {
+	if e = base.FirstOf(e, base.MissingError(step, len(l))); e != api.OK {
 		return 0, e
 	}
 	until := p.untils()[step]
@@ -75,17 +75,6 @@ func ToDo(l []api.TuneStep, events []api.TuneEvent, minute int) ([]int, api.Errn
 
 // nameOf is the name of a step.
 func nameOf(x api.TuneStep) string { return x.Name }
-
-// needsError is the error of what a step needs.
-func needsError(needs []int, step int) api.Errno {
-	_, e := base.FirstIn(len(needs), func(n int) api.Errno {
-		return base.FirstOf(
-			base.Unless(base.Within(needs[n], 0, step-1), api.ErrMissing),
-			base.RiseError(needs, n),
-		)
-	})
-	return e
-}
 
 // lastMinute is the minute of the last event, or the first one of all.
 func lastMinute(events []api.TuneEvent) int {
