@@ -3,6 +3,7 @@ package base_test
 import (
 	"math"
 	"slices"
+	"strings"
 	"testing"
 
 	"couplant/api"
@@ -257,6 +258,41 @@ func TestLines(t *testing.T) {
 	want(t, "ReadOne at the end", base.ReadOne(l, &one, is("")), false)
 	want(t, "the line that is not there", l.Next(), 2)
 	want(t, "the end of nothing", base.LinesOf("").AtEnd(), true)
+}
+
+func TestLineOf(t *testing.T) {
+	want(t, "LineOf nothing", base.LineOf(), "\n")
+	want(t, "LineOf a word", base.LineOf("a"), "a\n")
+	want(t, "LineOf words", base.LineOf("a", "5 6", "c"), "a 5 6 c\n")
+}
+
+func TestReadMarked(t *testing.T) {
+	long := strings.Repeat("a", api.MaxText)
+	for _, x := range []struct {
+		text  string
+		lines []string
+		mark  api.TextMark
+		e     api.Errno
+	}{
+		{"", nil, api.TextMark{Line: 1, Column: 1}, api.ErrMissing}, {"\n", []string{"\n"}, api.TextMark{Line: 2, Column: 1}, api.ErrMissing}, {"a", []string{"a"}, api.TextMark{Line: 2, Column: 1}, api.ErrMissing},
+		{"a\n\nb\n", []string{"a\n", "\n", "b\n"}, api.TextMark{Line: 4, Column: 1}, api.ErrMissing}, {"a\nend", []string{"a\n", "end"}, api.TextMark{}, api.OK}, {"end\n", []string{"end\n"}, api.TextMark{}, api.OK}, {"end\na", []string{"end\n", "a"}, api.TextMark{}, api.OK},
+		{"a\n\nwrong\nend\nwrong\n", []string{"a\n", "\n", "wrong\n"}, api.TextMark{Line: 3, Column: 7}, api.ErrKind}, {"end\nwrong\n", []string{"end\n", "wrong\n"}, api.TextMark{Line: 2, Column: 7}, api.ErrKind},
+		{long, []string{long}, api.TextMark{Line: 2, Column: 1}, api.ErrMissing}, {long + "a", nil, api.TextMark{}, api.ErrLarge},
+	} {
+		var lines []string
+		isComplete := false
+		mark, e := base.ReadMarked(x.text, func(line string) (int, api.Errno) {
+			lines = append(lines, line)
+			isComplete = isComplete || strings.HasPrefix(line, "end")
+			if strings.HasPrefix(line, "wrong") {
+				return 7, api.ErrKind
+			}
+			return 0, api.OK
+		}, func() bool { return isComplete })
+		want(t, "the lines of "+x.text, slices.Equal(lines, x.lines), true)
+		want(t, "the mark of "+x.text, mark, x.mark)
+		want(t, "the error of "+x.text, e, x.e)
+	}
 }
 
 func TestIsWhole(t *testing.T) {

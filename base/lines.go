@@ -1,6 +1,10 @@
 package base
 
-import "strings"
+import (
+	"strings"
+
+	"couplant/api"
+)
 
 // Lines reads a text line by line, each in the one form, or in one of the forms, that it may have there.
 type Lines struct {
@@ -36,4 +40,22 @@ func ReadAll[T any](l *Lines, into *[]T, of func(line string) (T, bool)) bool {
 		*into = append(*into, value)
 	}
 	return true
+}
+
+// ReadMarked reads a text line by line, with the line feeds: read returns the column of the first error in a line, and this. It returns the mark of the first error and this, or ErrMissing behind all lines unless the text is complete there.
+func ReadMarked(text string, read func(line string) (int, api.Errno), isComplete func() bool) (api.TextMark, api.Errno) {
+	if len(text) > api.MaxText {
+		return api.TextMark{}, api.ErrLarge
+	}
+	lines := 0
+	for line := range strings.Lines(text) {
+		lines++
+		if column, e := read(line); e != api.OK {
+			return api.TextMark{Line: lines, Column: column}, e
+		}
+	}
+	if !isComplete() {
+		return api.TextMark{Line: lines + 1, Column: 1}, api.ErrMissing
+	}
+	return api.TextMark{}, api.OK
 }

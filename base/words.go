@@ -1,5 +1,7 @@
 package base
 
+import "strings"
+
 // Word is a word of a line, and the column of its first byte, from 1 on.
 type Word struct {
 	Text   string
@@ -25,6 +27,9 @@ func WordsOf(line string) []Word {
 	}
 	return words
 }
+
+// LineOf is a line of words with single blanks between, and a line feed at its end.
+func LineOf(words ...string) string { return strings.Join(words, " ") + "\n" }
 
 // isBetween tells whether a byte stands between words.
 func isBetween(b byte) bool { return b == ' ' || b == '\t' || b == '\n' }

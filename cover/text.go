@@ -45,29 +45,23 @@ func Print(j api.CoverJoint) (string, api.Errno) {
 	if e := jointError(j); e != api.OK {
 		return "", e
 	}
-	var t strings.Builder
-	printLine(&t, jointWord, j.Name, thickWord, base.Spaced(j.Thick), zoneWord, base.Spaced(j.Zone))
+	lines := []string{base.LineOf(jointWord, j.Name, thickWord, base.Spaced(j.Thick), zoneWord, base.Spaced(j.Zone))}
 	for _, f := range j.Faces {
-		printLine(&t, faceWord, f.Name, base.Spaced(f.From.X, f.From.Z, f.To.X, f.To.Z))
+		lines = append(lines, base.LineOf(faceWord, f.Name, base.Spaced(f.From.X, f.From.Z, f.To.X, f.To.Z)))
 	}
-	return t.String(), api.OK
+	return strings.Join(lines, ""), api.OK
 }
 
 // Parse returns the joint with a text, or the mark of its first error, and this.
 func Parse(t string) (api.CoverJoint, api.TextMark, api.Errno) {
-	if len(t) > api.MaxText {
-		return api.CoverJoint{}, api.TextMark{}, api.ErrLarge
-	}
 	var j api.CoverJoint
-	lines := 0
-	for line := range strings.Lines(t) {
-		lines++
-		if f := readLine(&j, base.WordsOf(line)); f.e != api.OK {
-			return api.CoverJoint{}, api.TextMark{Line: lines, Column: f.column}, f.e
-		}
+	read := func(line string) (int, api.Errno) {
+		f := readLine(&j, base.WordsOf(line))
+		return f.column, f.e
 	}
-	if j.Name == "" {
-		return api.CoverJoint{}, api.TextMark{Line: lines + 1, Column: 1}, api.ErrMissing
+	isComplete := func() bool { return j.Name != "" }
+	if mark, e := base.ReadMarked(t, read, isComplete); e != api.OK {
+		return api.CoverJoint{}, mark, e
 	}
 	return j, api.TextMark{}, api.OK
 }
@@ -122,9 +116,4 @@ func readFace(j *api.CoverJoint, words []base.Word) fault {
 		faultAt(words[5], depthError(to.Z, j.Thick)),
 		faultAt(words[2], base.Unless(from != to, api.ErrZero)),
 	)
-}
-
-// printLine adds words, with single blanks between, and a line feed.
-func printLine(t *strings.Builder, words ...string) {
-	t.WriteString(strings.Join(words, " ") + "\n")
 }
